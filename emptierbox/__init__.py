@@ -1,0 +1,1 @@
+"""Balls put into the emptier of drawn boxes, reckoned in exact shares."""

@@ -1,0 +1,51 @@
+"""What the tests hand in where a function takes anything, and how they ask for refusals."""
+
+from emptierbox import errors
+
+REFUSALS = (
+    errors.NoShare, errors.NoBall, errors.Unlike, errors.Fuller, errors.TooMany,
+    errors.NoBack, errors.NoName, errors.NoText, errors.NoRow,
+)
+
+
+def nested(kind, depth):
+    """A tuple, list or dict that holds one such thing, and so on, depth deep."""
+    thing = 1
+    for level in range(depth):
+        thing = {level: thing} if kind is dict else kind([thing])
+    return thing
+
+
+def anything():
+    """Things of all kinds that may be looked at; none of them is a share, a load or a list of moves."""
+    plain = [True, False, None, 0, 1, -1, 10 ** 199, -10 ** 199, "", "a", "1/2", "(1, 2)"]
+    containers = [(), {}, {1: 2}, {0: 1, 1: 2}, {"top": 1, "bottom": 2}, [1], [1, 2], [[1, 2]], [None],
+                  (None,), (None, None), ("1", "2"), ("a",), ([],), ({},), ((),), ((), ()), ([1], [2]),
+                  ({}, {}), ((1, 2), (1, 3)), ((1,), 2), (1, (2,)), (True, 2), (1, True), (1, None),
+                  (None, 1), (1, "2"), ("1", 2), (True,), (False,), (-1,), (1, False), (True, False)]
+    deep = [nested(kind, 8) for kind in (tuple, list, dict)]
+    deep += [(nested(kind, 7), 1) for kind in (tuple, list, dict)]
+    deep += [[(nested(kind, 6), 1)] for kind in (tuple, list, dict)]
+    long = [(0,) * 9999, [0] * 9999, "7" * 9999, {at: at for at in range(4999)}, ((1, 2),) * 3000,
+            [(1, 2)] * 3000, [()] * 9999, [(5, 5)] * 3000]
+    return plain + containers + deep + long
+
+
+def assert_refused(case, refusal, deed, *handed):
+    """The deed is refused with this class alone, and what was handed in stays as it was."""
+    shown = repr(handed)
+    with case.assertRaises(ValueError) as caught:
+        deed(*handed)
+    case.assertIs(type(caught.exception), refusal)
+    case.assertIsInstance(caught.exception, errors.BallError)
+    for other in REFUSALS:
+        case.assertEqual(isinstance(caught.exception, other), other is refusal)
+    case.assertEqual(repr(handed), shown)
+
+
+def assert_plain(case, told):
+    """What is told is of Python's own kinds through and through."""
+    case.assertIn(type(told), (int, bool, str, tuple, list, dict, type(None)))
+    if type(told) in (tuple, list):
+        for part in told:
+            assert_plain(case, part)
