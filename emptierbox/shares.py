@@ -69,3 +69,22 @@ def total(some):
 def is_less(a, b):
     """Tell whether the first share is less than the second."""
     return a[0] * b[1] < b[0] * a[1]
+
+
+def parted(top, bottoms):
+    """Tell a whole number divided by each of some whole numbers from 1 on."""
+    # Bottom by bottom, since measures of short numbers are soon found.
+    bottom = 1
+    for number in bottoms:
+        common = measure(top, number)
+        top = top // common
+        bottom = bottom * (number // common)
+    return (top, bottom)
+
+
+def weighed(some):
+    """Tell the tops of shares over one common bottom, a list, and this bottom."""
+    bottom = 1
+    for one in some:
+        bottom = bottom // measure(bottom, one[1]) * one[1]
+    return [one[0] * (bottom // one[1]) for one in some], bottom

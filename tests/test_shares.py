@@ -3,7 +3,7 @@ import unittest
 from fractions import Fraction
 
 from emptierbox.errors import NoShare
-from emptierbox.shares import is_less, is_share, minus, over, plus, share, times, total
+from emptierbox.shares import is_less, is_share, minus, over, parted, plus, share, times, total, weighed
 from tests.things import anything, assert_plain, assert_refused
 
 
@@ -156,6 +156,20 @@ class Total(unittest.TestCase):
         some = [(1, 2), (0, 1), (-1, 3)]
         total(some)
         self.assertEqual(some, [(1, 2), (0, 1), (-1, 3)])
+
+
+class OverSomeBottoms(unittest.TestCase):
+    def test_parted(self):
+        for top in range(-12, 13):
+            for bottoms in ([], [1], [6], [4, 6], [2, 2, 3], [12, 1, 5, 6]):
+                wanted = Fraction(top)
+                for bottom in bottoms:
+                    wanted /= bottom
+                self.assertEqual(parted(top, bottoms), told(wanted))
+
+    def test_weighed(self):
+        self.assertEqual(weighed([]), ([], 1))
+        self.assertEqual(weighed([(1, 6), (-3, 4), (0, 1), (5, 1)]), ([2, -9, 0, 60], 12))
 
 
 class IsLess(unittest.TestCase):

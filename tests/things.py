@@ -1,5 +1,8 @@
 """What the tests hand in where a function takes anything, and how they ask for refusals."""
 
+import random
+from fractions import Fraction
+
 from emptierbox import errors
 
 REFUSALS = (
@@ -49,3 +52,49 @@ def assert_plain(case, told):
     if type(told) in (tuple, list):
         for part in told:
             assert_plain(case, part)
+
+
+def told(fraction):
+    """A fraction as the program tells it."""
+    return (fraction.numerator, fraction.denominator)
+
+
+def tell(fractions):
+    return tuple(told(Fraction(one)) for one in fractions)
+
+
+def chance_rule(chance, n, most=40):
+    """A rule of n boxes by chance, often with ranks that have the share nought."""
+    while True:
+        tops = [chance.choice((0, 1, 2, chance.randrange(most))) for rank in range(n)]
+        if sum(tops) > 0:
+            return tell(Fraction(top, sum(tops)) for top in tops)
+
+
+def one_rank(n, rank):
+    """The rule that puts each ball at one rank."""
+    return tuple((int(at == rank), 1) for at in range(n))
+
+
+def some_rules(n, many=4):
+    """Rules of n boxes: of one rank alone, all ranks alike, others by chance."""
+    chance = random.Random(n)
+    found = [one_rank(n, 0), one_rank(n, n - 1), one_rank(n, n // 2), tell([Fraction(1, n)] * n)]
+    return found + [chance_rule(chance, n) for turn in range(many)]
+
+
+def chance_spread(chance, loads):
+    """A spread of these loads by chance."""
+    tops = [chance.randrange(1, 30) for load in loads]
+    return [(load, told(Fraction(top, sum(tops)))) for load, top in zip(sorted(loads), tops)]
+
+
+def long_rule(n, figures):
+    """A rule of n boxes whose shares have some so many figures."""
+    chance = random.Random(figures)
+    while True:
+        tops = [chance.randrange(1, 10 ** figures // n) for rank in range(n - 1)]
+        bottom = 10 ** figures + 1
+        rule = tell(Fraction(top, bottom) for top in tops + [bottom - sum(tops)])
+        if max(share[1] for share in rule) > 10 ** (figures - 9):
+            return rule
