@@ -70,23 +70,21 @@ def gone(weights):
                      for rank, number in enumerate(load) if number > 0])
 
 
-def ask_boxes(rule, spread):
-    """Refuse a rule that hasn't as many boxes as the loads of a spread."""
-    if len(rule) != len(spread[0][0]):
-        raise Unlike("the rule hasn't as many boxes as the loads")
+def ask_boxes(ranks, load):
+    """Refuse what hasn't as many ranks as a load has boxes."""
+    if len(ranks) != len(load):
+        raise Unlike("there aren't as many ranks as boxes")
 
 
-def ask_balls(spread):
-    """Refuse a spread of loads without a ball, and tell how many balls there are."""
-    balls = sum(spread[0][0])
-    if balls == 0:
+def ask_balls(load):
+    """Refuse a load without a ball."""
+    if sum(load) == 0:
         raise NoBall("there is no ball that could leave")
-    return balls
 
 
 def after(rule, spread, many):
     """Tell the spread behind so many balls more by a rule."""
-    ask_boxes(rule, spread)
+    ask_boxes(rule, spread[0][0])
     chances, ball_bottom = weighed(list(rule))
     weights, bottom = weights_of(spread)
     for ball in range(many):
@@ -103,6 +101,6 @@ def put(rule, spread):
 
 def leave(spread):
     """Tell the spread behind a ball leaving by chance, each ball alike."""
-    balls = ask_balls(spread)
+    ask_balls(spread[0][0])
     weights, bottom = weights_of(spread)
-    return spread_of(gone(weights), [bottom, balls])
+    return spread_of(gone(weights), [bottom, sum(spread[0][0])])
