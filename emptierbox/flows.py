@@ -34,26 +34,30 @@ def path_to(j, givers, takers):
     return more, less
 
 
+def send(gives, takes, sent, more, less):
+    """Send as much as goes along a path, and note what is left to give and to take."""
+    start, end = more[-1][0], more[0][1]
+    much = min([gives[start], takes[end]] + [sent[way] for way in less])
+    gives[start] -= much
+    takes[end] -= much
+    for way in more:
+        sent[way] = sent.get(way, 0) + much
+    for way in less:
+        sent[way] -= much
+
+
 def flow(gives, takes, ways):
     """Tell how much goes by each way (i, j), and the givers reached where something is left that can't go.
 
     ways holds for each giver the list of takers that it may give to.
     """
     gives, takes, sent = list(gives), list(takes), {}
-    givers, takers = reached(gives, ways, sent)
-    ends = [j for j in takers if takes[j] > 0]
-    while ends:
-        more, less = path_to(ends[0], givers, takers)
-        start, end = more[-1][0], ends[0]
-        # As much as goes, along a shortest path: so the number of paths hangs
-        # on the number of ways alone, not on how much there is to move.
-        much = min([gives[start], takes[end]] + [sent[way] for way in less])
-        gives[start] -= much
-        takes[end] -= much
-        for way in more:
-            sent[way] = sent.get(way, 0) + much
-        for way in less:
-            sent[way] -= much
+    while True:
         givers, takers = reached(gives, ways, sent)
         ends = [j for j in takers if takes[j] > 0]
-    return sent, sorted(givers)
+        if not ends:
+            return sent, list(givers)
+        # As much as goes, along a shortest path: so the number of paths hangs
+        # on the number of ways alone, not on how much there is to move.
+        more, less = path_to(ends[0], givers, takers)
+        send(gives, takes, sent, more, less)

@@ -10,7 +10,7 @@ from emptierbox.joints import is_joint, parts, put_both
 from emptierbox.loads import all_loads
 from emptierbox.means import first_mean, fullest_share, mean
 from emptierbox.pairings import pairing
-from emptierbox.rules import drawn, unlike
+from emptierbox.rules import drawn, mixed, unlike
 from emptierbox.shares import is_less
 from emptierbox.spreads import after, alone, is_spread, put
 from tests.test_joints import all_pairs, chance_joint, no_fuller, slow_parts
@@ -136,8 +136,18 @@ class Held(unittest.TestCase):
                     if first != second:
                         self.assertEqual(self.check(second, first), "set")
 
-    def test_a_joint_spread_from_further_pairs(self):
-        """What was given at first must be taken back in part, several times over."""
+    def test_what_was_given_at_first_is_taken_back(self):
+        # (2, 2, 2) must leave (3, 3, 0) to (3, 3, 0), which goes nowhere else.
+        for top, bottom in ((1, 2), (1, 3), (2, 5), (2, 3), (9, 10)):
+            rest = (bottom - top, bottom)
+            first = [((2, 2, 2), rest), ((3, 3, 0), (top, bottom))]
+            second = [((3, 3, 0), (top, bottom)), ((4, 1, 1), rest)]
+            wanted = [((2, 2, 2), (4, 1, 1), rest), ((3, 3, 0), (3, 3, 0), (top, bottom))]
+            self.assertEqual(held(first, second), ("joint", wanted))
+            self.assertEqual(self.check(first, second), "joint")
+            self.assertEqual(self.check(second, first), "set")
+
+    def test_each_load_a_step_further(self):
         loads = [(8 + at, 8 - at) for at in range(9)]
         for k in range(1, 8):
             first = [(load, (1, k)) for load in loads[:k]]
@@ -195,6 +205,17 @@ class Held(unittest.TestCase):
             kept = list(answer[1])
             answer[1].clear()
             self.assertEqual(held(first, second)[1], kept)
+
+
+    def test_more_boxes_are_never_fuller(self):
+        for n, balls in ((2, 9), (3, 7), (4, 6), (6, 5)):
+            start = alone((1,) + (0,) * (n - 1))
+            rules = [unlike(n, n), unlike(n, 2), drawn(n, 2), mixed((1, 3), drawn(n, 2), drawn(n, 1)), drawn(n, 1)]
+            spreads = [after(rule, start, balls) for rule in rules]
+            for at, second in enumerate(spreads):
+                for first in spreads[:at + 1]:
+                    self.assertEqual(self.check(first, second), "joint")
+                    self.assertEqual(self.check(second, first), "joint" if first == second else "set")
 
 
 class LetsJoint(unittest.TestCase):
