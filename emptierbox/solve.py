@@ -13,9 +13,10 @@ def solved(rows, rights):
     Each row holds what the unknown ones are taken times; its right says what they are together.
     """
     rows = [row + [right] for row, right in zip(rows, rights)]
+    many = len(rows)
     last = 1
-    for at in range(len(rows)):
-        chosen = min([k for k in range(at, len(rows)) if rows[k][at] != 0])
+    for at in range(many):
+        chosen = min([k for k in range(at, many) if rows[k][at] != 0])
         rows[at], rows[chosen] = rows[chosen], rows[at]
         beside = rows[at]
         rows = [row if k == at else cleared(row, beside, at, last) for k, row in enumerate(rows)]

@@ -5,6 +5,7 @@ here is told, and is added when the package first needs it and the language lets
 """
 
 import ast
+import builtins
 import re
 
 NODES = """Module Expr Constant ImportFrom alias FunctionDef arguments arg ClassDef Assign AugAssign
@@ -39,7 +40,7 @@ def faults(text, package="emptierbox"):
             why = look(node)
             if why:
                 found.append(f"{why} at {getattr(node, 'lineno', 0)}")
-    return found + faults_of_names(tree)
+    return found + faults_of_names(tree) + faults_of_locals(tree) + faults_of_walks(tree)
 
 
 def faults_of_signs(text):
@@ -176,6 +177,47 @@ def faults_of_names(tree):
             given.add(node.asname or node.name)
     return [f"the name {node.id} at {node.lineno}" for node in ast.walk(tree)
             if isinstance(node, ast.Name) and node.id not in given and node.id not in BUILTINS]
+
+
+def faults_of_locals(tree):
+    """Parameters and locals that are called like an import, a class or a name of Python's own."""
+    taken = set(dir(builtins))
+    for row in tree.body:
+        taken.update(name.asname or name.name for name in getattr(row, "names", []))
+        if isinstance(row, ast.ClassDef):
+            taken.add(row.name)
+    found = []
+    for row in tree.body:
+        for node in ast.walk(row) if isinstance(row, (ast.FunctionDef, ast.ClassDef)) else []:
+            stored = isinstance(node, ast.Name) and isinstance(node.ctx, ast.Store)
+            name = node.arg if isinstance(node, ast.arg) else node.id if stored else ""
+            if name in taken:
+                found.append(f"{name} given another meaning at {node.lineno}")
+    return found
+
+
+CHANGES = ("append", "clear", "extend", "insert", "pop", "remove", "reverse", "setdefault", "sort", "update")
+
+
+def names_in(node):
+    return {part.id for part in ast.walk(node) if isinstance(part, ast.Name)}
+
+
+def changed_in(node):
+    """The names of what is changed somewhere within, by an item, a slice or a method."""
+    found = set()
+    for part in ast.walk(node):
+        if isinstance(part, ast.Subscript) and isinstance(part.ctx, (ast.Store, ast.Del)):
+            found |= names_in(part.value)
+        if isinstance(part, ast.Call) and isinstance(part.func, ast.Attribute) and part.func.attr in CHANGES:
+            found |= names_in(part.func.value)
+    return found
+
+
+def faults_of_walks(tree):
+    """Loops in which what they walk is changed."""
+    return [f"a walk over what is changed at {node.lineno}" for node in ast.walk(tree)
+            if isinstance(node, ast.For) and names_in(node.iter) & set().union(*map(changed_in, node.body))]
 
 
 def drawn(tree):
