@@ -374,7 +374,8 @@ class LetsSet(unittest.TestCase):
             word, good = held(first, second)
             if word == "set":
                 for thing in (tuple(good), [list(load) for load in good], good + [None], good + [()], [None, *good],
-                              [good], {load: True for load in good}, good + [good[-1]], [(load, (1, 1)) for load in good],
+                              [good], {load: True for load in good}, good + [good[-1]],
+                              [(load, (1, 1)) for load in good],
                               [tuple(map(str, load)) for load in good], str(good), good + [(10 ** 199,)]):
                     self.assertIs(lets_set(first, second, thing), False)
         self.assertIs(lets_set(alone((1, 0, 0)), alone((1, 0, 0)), [(1, 0, 0)]), False)

@@ -20,9 +20,11 @@ OUTSIDE = [
     "def f():\n    return '%'", "def f():\n    return '\\x41'", "def f():\n    return 1" + "\n" * 401,
     "# " + "x" * 120, "# \u00e4", "def f():\n\treturn 1", "def f():\n" + "    k = 1\n" * 40,
     "def f():\n    import os", "for k in [1]:\n    pass", "def f(*, print):\n    pass",
-    "from emptierbox.shares import share\n\ndef f(share):\n    return share", "def f(xs):\n    map = xs\n    return map",
+    "from emptierbox.shares import share\n\ndef f(share):\n    return share",
+    "def f(xs):\n    map = xs\n    return map",
     "from emptierbox.shares import share\n\ndef f(xs):\n    return [share for share in xs]",
-    "def f(xs):\n    for x in xs:\n        xs.append(x)", "def f(xs):\n    for k, x in enumerate(xs):\n        xs[k] = 1",
+    "def f(xs):\n    for x in xs:\n        xs.append(x)",
+    "def f(xs):\n    for k, x in enumerate(xs):\n        xs[k] = 1",
     "class A(B, C):\n    pass", "def f(x):\n    return getattr(x, 'y')", "def f():\n    return b'a'",
 ]
 

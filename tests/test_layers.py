@@ -139,7 +139,6 @@ class Bound(unittest.TestCase):
         self.assertEqual(bound(even, 2, (2, 0)), (1, 1))
         self.assertEqual(bound(even, 2, (2, 1)), (1, 1))
         self.assertEqual(bound(even, 2, (2, 2)), (0, 1))
-        self.assertEqual(bound(even, 2, (2, 1, 0)), told(slow_tail(2, Fraction(1), 2) + slow_tail(2, Fraction(1, 2), 1)))
         self.assertEqual(bound(even, 2, (2, 1, 0)), (7, 4))
         self.assertEqual(bound(even, 1, (2, 1, 0)), (0, 1))
         self.assertEqual(bound(even, 3, (2, 2, 1, 0)), (7, 8))
@@ -176,7 +175,8 @@ class Bound(unittest.TestCase):
         for n in range(1, 13):
             for rule in some_rules(n, 2) + [drawn(n, 2), unlike(n, 1)]:
                 for turn in range(3):
-                    layers = (n, *sorted((chance.randrange(n + 1) for k in range(chance.randrange(1, 7))), reverse=True))
+                    numbers = [chance.randrange(n + 1) for k in range(chance.randrange(1, 7))]
+                    layers = (n, *sorted(numbers, reverse=True))
                     balls = chance.randrange(25)
                     self.assertTrue(is_layers(rule, layers))
                     self.assertEqual(bound(rule, balls, layers), slow_bound(rule, balls, layers))
