@@ -3,8 +3,8 @@
 from emptierbox.errors import Fuller, TooMany
 from emptierbox.loads import is_load, put_at, taken_from
 from emptierbox.order import first_fuller
-from emptierbox.shares import parted, total, weighed
-from emptierbox.spreads import are_alike, are_one, are_rising, ask_balls, ask_boxes, gathered
+from emptierbox.shares import parted, weighed
+from emptierbox.spreads import are_alike, are_one, are_rising, ask_balls, ask_boxes, gathered, summed
 
 MOST_PAIRS = 300
 
@@ -69,15 +69,7 @@ def leave_both(joint):
     return joint_of(later, [bottom, sum(joint[0][0])])
 
 
-def part_of(rows):
-    """Tell the spread of a list of loads with shares, in which a load may stand more than once."""
-    found = {}
-    for load, part in rows:
-        found.setdefault(load, []).append(part)
-    return [(load, total(some)) for load, some in sorted(found.items())]
-
-
 def parts(joint):
     """Tell the spread of the ones and the spread of the others."""
-    return (part_of([(one, part) for one, other, part in joint]),
-            part_of([(other, part) for one, other, part in joint]))
+    return (summed([(one, part) for one, other, part in joint]),
+            summed([(other, part) for one, other, part in joint]))

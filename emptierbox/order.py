@@ -2,7 +2,7 @@
 
 from emptierbox.errors import Unlike
 from emptierbox.loads import falling
-from emptierbox.whole import is_whole
+from emptierbox.whole import is_two_places
 
 
 def ask_alike(one, other):
@@ -24,11 +24,7 @@ def first_fuller(one, other):
 
 def can_move(load, thing):
     """Tell whether a thing, whatever it is, is a move that can be done with a load."""
-    if not isinstance(thing, tuple) or len(thing) != 2:
-        return False
-    if not all([is_whole(rank) and rank >= 0 and rank < len(load) for rank in thing]):
-        return False
-    return load[thing[0]] >= load[thing[1]] + 2
+    return is_two_places(thing, len(load)) and load[thing[0]] >= load[thing[1]] + 2
 
 
 def moved(load, move):

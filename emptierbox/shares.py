@@ -50,7 +50,9 @@ def minus(a, b):
 
 def times(a, b):
     """Tell the product of two shares."""
-    return share(a[0] * b[0], a[1] * b[1])
+    # Crosswise, since the measure of a long number and a short one is soon found.
+    first, second = measure(a[0], b[1]), measure(b[0], a[1])
+    return ((a[0] // first) * (b[0] // second), (a[1] // second) * (b[1] // first))
 
 
 def over(a, b):

@@ -47,6 +47,14 @@ def gathered(rows):
     return found
 
 
+def summed(rows):
+    """Tell for each thing the sum of its shares, rising, of a list of things with shares."""
+    found = {}
+    for thing, part in rows:
+        found.setdefault(thing, []).append(part)
+    return [(thing, total(some)) for thing, some in sorted(found.items())]
+
+
 def weights_of(spread):
     """Tell the weight of each load, a whole number, and what all weights are divided by."""
     tops, bottom = weighed([part for load, part in spread])

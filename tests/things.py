@@ -98,3 +98,16 @@ def long_rule(n, figures):
         rule = tell(Fraction(top, bottom) for top in tops + [bottom - sum(tops)])
         if max(share[1] for share in rule) > 10 ** (figures - 9):
             return rule
+
+
+def chance_net(seed, most=40, boxes=None):
+    """A net by chance."""
+    chance = random.Random(seed)
+    n = boxes or chance.randrange(1, 7)
+    pairs = [(chance.randrange(n), chance.randrange(n)) for at in range(chance.randrange(1, most + 1))]
+    return (n, tuple(pairs), chance.choice(("left", "dice")))
+
+
+def chance_stand(chance, n, most=4):
+    """A stand of n boxes by chance."""
+    return tuple(chance.randrange(most + 1) for box in range(n))
