@@ -17,7 +17,8 @@ BUILTINS = """len range enumerate zip min max sum abs sorted reversed int str bo
     isinstance ord repr any all divmod ValueError KeyError IndexError LookupError ZeroDivisionError""".split()
 METHODS = """append clear copy count endswith extend find get index insert isalnum isalpha isdigit islower
     isspace isupper items join keys ljust lower lstrip partition pop remove replace reverse rfind rjust
-    rpartition rsplit rstrip setdefault split splitlines startswith strip update upper values zfill""".split()
+    rpartition rsplit rstrip setdefault split splitlines startswith strip update upper values zfill
+    isascii removeprefix""".split()
 KEYWORDS = {"sorted": ["key", "reverse"], "min": ["key", "default"], "max": ["key", "default"],
             "sum": ["start"], "enumerate": ["start"], "zip": ["strict"]}
 UNUSED = """register mro elements open input version_info with_traceback add_note attrgetter breakpoint builtins
@@ -25,6 +26,7 @@ UNUSED = """register mro elements open input version_info with_traceback add_not
     locals methodcaller os quit setattr super sys vars chr frozenset print""".split()
 WORDS = r"""\b(type|typing|typing_extensions|enum|Enum|IntEnum|StrEnum|Flag|IntFlag|Generic|Protocol|ABC|ABCMeta
     |namedtuple|NamedTuple|TypedDict|TYPE_CHECKING|abstractmethod)\b|dataclass|overload|contextmanager"""
+OWN_VALUES = ("", 1, b"", [], {}, (), set())
 DUNDERS = ["__init__", "__eq__", "__repr__", "__str__", "__len__"]
 
 
@@ -40,7 +42,7 @@ def faults(text, package="emptierbox"):
             why = look(node)
             if why:
                 found.append(f"{why} at {getattr(node, 'lineno', 0)}")
-    return found + faults_of_names(tree) + faults_of_locals(tree) + faults_of_walks(tree)
+    return found + faults_of_names(tree) + faults_of_locals(tree) + faults_of_walks(tree) + faults_of_methods(tree)
 
 
 def faults_of_signs(text):
@@ -140,8 +142,6 @@ def fault_of_value(node):
 def fault_of_call(node):
     if not isinstance(node, ast.Call):
         return ""
-    if isinstance(node.func, ast.Attribute) and node.func.attr not in METHODS:
-        return f"the method {node.func.attr}"
     if isinstance(node.func, ast.Name) and node.func.id in BUILTINS:
         for word in node.keywords:
             if word.arg not in KEYWORDS.get(node.func.id, []):
@@ -218,6 +218,32 @@ def faults_of_walks(tree):
     """Loops in which what they walk is changed."""
     return [f"a walk over what is changed at {node.lineno}" for node in ast.walk(tree)
             if isinstance(node, ast.For) and names_in(node.iter) & set().union(*map(changed_in, node.body))]
+
+
+def methods(tree):
+    """The names of the methods that a file's classes have, each as often as it stands there."""
+    return [row.name for part in tree.body if isinstance(part, ast.ClassDef)
+            for row in part.body if isinstance(row, ast.FunctionDef)]
+
+
+def faults_of_methods(tree):
+    """Methods that are called and are neither Python's own that are listed nor of a class of the file."""
+    found = [f"the method {node.func.attr} at {node.lineno}" for node in ast.walk(tree)
+             if isinstance(node, ast.Call) and isinstance(node.func, ast.Attribute)
+             and node.func.attr not in METHODS + methods(tree)]
+    for part in tree.body:
+        own = methods(ast.Module([part], []))
+        found += [f"{name} stands twice at {part.lineno}" for name in set(own) if own.count(name) > 1]
+    return found + [f"{name} is a method of Python's own values" for name in methods(tree)
+                    if name not in DUNDERS and any(hasattr(one, name) for one in OWN_VALUES)]
+
+
+def values(tree):
+    """The values that objects are given in a file, and those that are asked of them."""
+    called = [id(node.func) for node in ast.walk(tree) if isinstance(node, ast.Call)]
+    found = [node for node in ast.walk(tree) if isinstance(node, ast.Attribute) and id(node) not in called]
+    given = {node.attr for node in found if isinstance(node.ctx, ast.Store)}
+    return given, {node.attr for node in found}
 
 
 def drawn(tree):

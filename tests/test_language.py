@@ -2,7 +2,7 @@ import ast
 import pathlib
 import unittest
 
-from tests.language import defined, drawn, faults
+from tests.language import OWN_VALUES, defined, drawn, faults, methods, values
 
 FOLDER = pathlib.Path(__file__).resolve().parent.parent / "emptierbox"
 
@@ -25,6 +25,8 @@ OUTSIDE = [
     "from emptierbox.shares import share\n\ndef f(xs):\n    return [share for share in xs]",
     "def f(xs):\n    for x in xs:\n        xs.append(x)",
     "def f(xs):\n    for k, x in enumerate(xs):\n        xs[k] = 1",
+    "class A:\n    def f(self):\n        return 1\n\n    def f(self):\n        return 2",
+    "class A:\n    def decode(self):\n        return 1", "def f(x):\n    return x.decode()",
     "class A(B, C):\n    pass", "def f(x):\n    return getattr(x, 'y')", "def f():\n    return b'a'",
 ]
 
@@ -61,6 +63,16 @@ class Language(unittest.TestCase):
             self.assertTrue(free, f"drawn in a ring: {sorted(below)}")
             for name in free:
                 del below[name]
+
+    def test_no_name_is_a_method_and_a_value(self):
+        trees = [ast.parse(text) for text in texts().values()]
+        own = {name for tree in trees for name in methods(tree)}
+        given = {name for tree in trees for name in values(tree)[0]}
+        asked = {name for tree in trees for name in values(tree)[1]}
+        self.assertEqual(own & given, set())
+        self.assertEqual(asked - given, set())
+        self.assertEqual([name for name in given if any(hasattr(one, name) for one in OWN_VALUES)], [])
+        self.assertLess({"put", "leave", "back", "where", "stand", "load", "say"}, own)
 
 
 if __name__ == "__main__":
